@@ -1,0 +1,1 @@
+"""Besttelling: what to tell, so that the best is done."""
