@@ -68,6 +68,29 @@ def total(some, start=None):
     return whole
 
 
+def greatest(some):
+    """The greatest of a list of at least one fraction."""
+    found = some[0]
+    for one in some:
+        if under(found, one):
+            found = one
+    return found
+
+
+def wholes(some):
+    """The least whole numbers in the proportions of a list of fractions, and what these were multiplied by."""
+    bottom = 1
+    for one in some:
+        bottom = bottom * one[1] // divisor(bottom, one[1])
+    tops = [one[0] * (bottom // one[1]) for one in some]
+    by = 0
+    for top in tops:
+        by = divisor(by, top)
+    # Noughts alone have no greatest divisor.
+    by = max(by, 1)
+    return ([top // by for top in tops], lowest(bottom, by))
+
+
 def lowest(top, bottom):
     """The fraction of two whole numbers whose bottom is not 0."""
     by = divisor(top, bottom)
@@ -78,7 +101,7 @@ def lowest(top, bottom):
 
 
 def divisor(one, other):
-    """The greatest number that divides both, where not both are 0."""
+    """The greatest number that divides both, 0 where both are 0."""
     while other != 0:
         one, other = other, one % other
     return abs(one)

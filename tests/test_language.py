@@ -83,6 +83,19 @@ class Language(unittest.TestCase):
             for alias in node.names:
                 self.assertIn(alias.name, defined[node.module], name)
 
+    def test_imports_go_round_nowhere_and_are_all_used(self):
+        imported = {}
+        for name, tree in trees():
+            froms = [node for node in ast.walk(tree) if isinstance(node, ast.ImportFrom)]
+            imported["besttelling." + name.removesuffix(".py")] = {node.module for node in froms}
+            read = {node.id for node in ast.walk(tree) if isinstance(node, ast.Name)}
+            self.assertEqual({alias.name for node in froms for alias in node.names} - read, set(), name)
+        while imported:
+            free = [module for module, needed in imported.items() if not needed & set(imported)]
+            self.assertTrue(free, sorted(imported))
+            for module in free:
+                del imported[module]
+
     def test_builtins(self):
         for name, node in nodes(ast.Name):
             if hasattr(builtins, node.id):

@@ -5,7 +5,7 @@ import itertools
 import unittest
 
 from besttelling.errors import ByNought, NoNumber
-from besttelling.ratios import is_ratio, made, minus, over, plus, times, total, under
+from besttelling.ratios import greatest, is_ratio, made, minus, over, plus, times, total, under, wholes
 from tests.things import Gruff, no_ratios, no_wholes, ratio, some_ratios, worth
 
 MANY = 10 ** 30 - 1
@@ -145,6 +145,24 @@ class Total(unittest.TestCase):
         for _ in range(2):
             self.assertEqual(total(some, (1, 6)), (1, 3))
             self.assertEqual(some, [(1, 2), (-1, 3)])
+
+
+class Lists(unittest.TestCase):
+    def test_greatest(self):
+        for many in (1, 2, 5, 30):
+            some = some_ratios(many, f"greatest {many}")
+            self.assertEqual(greatest(some), ratio(max(worth(one) for one in some)))
+        self.assertEqual(greatest([(-1, 2), (-1, 3), (-2, 3)]), (-1, 3))
+
+    def test_wholes(self):
+        self.assertEqual(wholes([(1, 2), (-1, 3), (0, 1)]), ([3, -2, 0], (6, 1)))
+        self.assertEqual(wholes([(4, 3), (2, 1)]), ([2, 3], (3, 2)))
+        self.assertEqual(wholes([(-4, 1)]), ([-1], (1, 4)))
+        self.assertEqual([wholes([]), wholes([(0, 1), (0, 1)])], [([], (1, 1)), ([0, 0], (1, 1))])
+        for many in (1, 2, 5, 9):
+            some = some_ratios(many, f"wholes {many}")
+            told, by = wholes(some)
+            self.assertEqual([worth(one) * worth(by) for one in some], told)
 
 
 if __name__ == "__main__":

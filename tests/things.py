@@ -3,6 +3,9 @@
 from fractions import Fraction
 import random
 
+from besttelling.cases import Case
+from besttelling.rules import Rule
+
 
 class Sly:
     """Claims to be like everything, and to be as long and as full as one likes."""
@@ -141,3 +144,70 @@ def spoil(told):
     for one in lists_in(told):
         one.clear()
         one.append("spoilt")
+
+
+def row_worths(row):
+    """The oracle's numbers of a row of fractions."""
+    return [worth(one) for one in row]
+
+
+def one_gain(kind, dice):
+    """A gain of one of the kinds of drawn cases."""
+    if kind == "tied":
+        return dice.randint(-1, 1)
+    if kind == "near":
+        return 123456789012 + Fraction(dice.randint(-2, 2), 10 ** 9)
+    if kind == "alike":
+        return Fraction(-7, 3)
+    return Fraction(dice.randint(-99, 99), dice.randint(1, 9))
+
+
+def drawn_case(worlds, deeds, kind="mixed", seed=0):
+    """A case whose gains often tie, nearly tie, are all alike or mixed; shares of nought are among them."""
+    dice = random.Random(f"{worlds} {deeds} {kind} {seed}")
+    hearer, teller = [[[ratio(one_gain(kind, dice)) for _ in range(deeds)] for _ in range(worlds)] for _ in range(2)]
+    return Case(share_row(worlds, dice, 3), hearer, teller)
+
+
+def drawn_cases(seeds=1):
+    """Cases of all sizes and kinds, always the same ones."""
+    return [drawn_case(worlds, deeds, kind, seed) for worlds in range(1, 6) for deeds in range(1, 7)
+            for kind in ("tied", "near", "alike", "mixed") for seed in range(seeds)]
+
+
+def drawn_rule(worlds, words, seed=0):
+    """A rule some of whose words are seldom or never said."""
+    return Rule(rule_rows(worlds, words, seed, 2))
+
+
+def reckoned_masses(case, rule, word):
+    """For each world how often it is there and the word is said."""
+    return [worth(share) * worth(row[word]) for share, row in zip(case.shares(), rule.rows())]
+
+
+def reckoned_worths(rows, weights):
+    """For each deed the sum over the worlds of weights times gains."""
+    return [sum(weight * worth(row[deed]) for weight, row in zip(weights, rows)) for deed in range(len(rows[0]))]
+
+
+def reckoned_deed(case, weights, against):
+    """The deed that is done by weights."""
+    hearer, teller = reckoned_worths(case.hearer(), weights), reckoned_worths(case.teller(), weights)
+    sign = 1 if against else -1
+    return min(range(len(hearer)), key=lambda deed: (-hearer[deed], sign * teller[deed], deed))
+
+
+def reckoned_gains(case, rule, against):
+    """What teller and hearer gain by a rule."""
+    gained = [Fraction(0), Fraction(0)]
+    for word in range(len(rule)):
+        weights = reckoned_masses(case, rule, word)
+        deed = reckoned_deed(case, weights, against)
+        gained[0] += reckoned_worths(case.teller(), weights)[deed]
+        gained[1] += reckoned_worths(case.hearer(), weights)[deed]
+    return tuple(gained)
+
+
+def copied(told):
+    """A new list, those within it new ones too."""
+    return [copied(thing) if isinstance(thing, list) else thing for thing in told]
