@@ -11,11 +11,16 @@ def chance(case, rule, word):
 
 def beliefs(case, rule, word):
     """The hearer's beliefs behind a word."""
-    behind = masses(case, rule, word)
-    whole = total(behind)
+    weights = masses(case, rule, word)
+    whole = total(weights)
     if whole == (0, 1):
         raise Unsaid(word)
-    return [over(mass, whole) for mass in behind]
+    return [over(weight, whole) for weight in weights]
+
+
+def behind(case, rule, word):
+    """The case with the beliefs behind a word as shares."""
+    return case.with_shares(beliefs(case, rule, word))
 
 
 def masses(case, rule, word):

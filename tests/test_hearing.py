@@ -7,18 +7,13 @@ from besttelling.cases import Case
 from besttelling.errors import NoWord, Unlike, Unsaid
 from besttelling.hearing import beliefs, chance
 from besttelling.ruletexts import read_rule
-from tests.things import drawn_case, drawn_rule, no_wholes, ratio, reckoned_masses, row_worths, worth
+from tests.things import drawn_case, drawn_rule, no_words, ratio, reckoned_masses, row_worths, worth
 
 
 def some_pairs():
     """Cases and rules of as many worlds, words that are never said among them."""
     return [(drawn_case(worlds, 2, seed=seed), drawn_rule(worlds, words, seed))
             for worlds in range(1, 6) for words in (1, 2, 3, 7, 30) for seed in range(4)]
-
-
-def no_words(rule):
-    """Things that are no words of a rule."""
-    return no_wholes() + [-1, -len(rule), len(rule), len(rule) + 1, 10 ** 29, -(10 ** 29), (0,), [0]]
 
 
 class Hearing(unittest.TestCase):

@@ -15,7 +15,7 @@ from besttelling.rules import Rule
 from besttelling.telling import all_told, silence
 from tests.things import (
     drawn_case, drawn_cases, drawn_rule, lists_in, ratio, reckoned_deed, reckoned_gains, reckoned_masses,
-    reckoned_worths, row_worths, share_row, spoil, worth,
+    reckoned_worths, row_worths, share_row, spoil, whole_case, worth,
 )
 
 
@@ -39,11 +39,6 @@ def tried_rules(case, seed):
     """Rules that might gain more than the most, if they could."""
     rules = [silence(case.worlds()), all_told(case.worlds())]
     return rules + [drawn_rule(case.worlds(), words, f"{seed} {words}") for words in (2, 3, 6)]
-
-
-def whole_case(shares, hearer, teller):
-    """A case whose gains are whole numbers."""
-    return Case(shares, *[[[(one, 1) for one in row] for row in rows] for rows in (hearer, teller)])
 
 
 def changed(case, hearer=None, teller=None):

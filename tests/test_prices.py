@@ -10,38 +10,14 @@ from besttelling.errors import NoShares
 from besttelling.mosts import most
 from besttelling.prices import bound, lets_prices
 from tests.things import (
-    Gruff, copied, drawn_case, drawn_cases, drawn_rule, no_lists, no_ratios, plain_things, ratio, row_worths, share_row,
-    worth,
+    Gruff, copied, dear, drawn_case, drawn_cases, drawn_instead, drawn_rule, no_lists, no_ratios, no_shares, plain_things,
+    ratio, row_worths, share_row, worth,
 )
 
 JUDGE = Case([(7, 10), (3, 10)], [[(1, 1), (0, 1)], [(0, 1), (1, 1)]], [[(0, 1), (1, 1)], [(0, 1), (1, 1)]])
 # Convicting an innocent one costs the hearer 1, which is what the teller gains by it; a guilty one pays for two.
 PRICES = ([(0, 1), (2, 1)], [[(0, 1), (0, 1)], [(1, 1), (0, 1)]])
 LITTLE = Fraction(1, 10 ** 29)
-
-
-def dear(case, instead):
-    """The least prices on worlds, reckoned here."""
-    deeds = range(case.deeds())
-    return [max(worth(teller[d]) + sum(worth(instead[d][e]) * (worth(hearer[d]) - worth(hearer[e])) for e in deeds)
-                for d in deeds) for hearer, teller in zip(case.hearer(), case.teller())]
-
-
-def drawn_instead(deeds, seed):
-    """Prices on deeds that might be done instead, drawn."""
-    dice = random.Random(f"{deeds} {seed}")
-    return [[ratio(0 if d == e else Fraction(dice.randint(0, 9), dice.randint(1, 4))) for e in range(deeds)]
-            for d in range(deeds)]
-
-
-def no_shares(worlds):
-    """Things other than None that are no shares for so many worlds."""
-    things = [thing for thing in no_lists() if thing is not None] + [[], [(1, 1)] + [(0, 1)] * worlds, [(0, 1)] * worlds]
-    things += [[thing] + [(0, 1)] * (worlds - 1) for thing in no_ratios() + [(-1, 1), (2, 1), (1, 2)]]
-    if worlds > 1:
-        things += [[(1, 1)] * worlds, [(1, 1)] + [(0, 1)] * (worlds - 2), [(2, 1), (-1, 1)] + [(0, 1)] * (worlds - 2)]
-        things += [[(0, 1)] * (worlds - 1) + [thing] for thing in no_ratios()]
-    return things
 
 
 class LetsPrices(unittest.TestCase):
@@ -161,7 +137,8 @@ class Bound(unittest.TestCase):
         for worlds in range(1, 6):
             case = drawn_case(worlds, 2)
             prices = most(case)[2]
-            for thing in no_shares(worlds):
+            # None stands for the case's own shares here.
+            for thing in [thing for thing in no_shares(worlds) if thing is not None]:
                 with self.assertRaises(NoShares) as caught:
                     bound(case, prices, thing)
                 self.assertIsInstance(caught.exception, ValueError)

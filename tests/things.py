@@ -87,6 +87,21 @@ def no_ratios():
     ]
 
 
+def no_shares(worlds):
+    """Things that are no shares for so many worlds."""
+    things = no_lists() + [[], [(1, 1)] + [(0, 1)] * worlds, [(0, 1)] * worlds]
+    things += [[thing] + [(0, 1)] * (worlds - 1) for thing in no_ratios() + [(-1, 1), (2, 1), (1, 2)]]
+    if worlds > 1:
+        things += [[(1, 1)] * worlds, [(1, 1)] + [(0, 1)] * (worlds - 2), [(2, 1), (-1, 1)] + [(0, 1)] * (worlds - 2)]
+        things += [[(0, 1)] * (worlds - 1) + [thing] for thing in no_ratios()]
+    return things
+
+
+def no_words(rule):
+    """Things that are no words of a rule."""
+    return no_wholes() + [-1, -len(rule), len(rule), len(rule) + 1, 10 ** 29, -(10 ** 29), (0,), [0]]
+
+
 def ratio(worth):
     """The fraction that the oracle has."""
     worth = Fraction(worth)
@@ -206,6 +221,30 @@ def reckoned_gains(case, rule, against):
         gained[0] += reckoned_worths(case.teller(), weights)[deed]
         gained[1] += reckoned_worths(case.hearer(), weights)[deed]
     return tuple(gained)
+
+
+def whole_case(shares, hearer, teller):
+    """A case whose gains are whole numbers."""
+    return Case(shares, *[[[(one, 1) for one in row] for row in rows] for rows in (hearer, teller)])
+
+
+def sure_shares(worlds, world):
+    """Shares all of which lie in one world."""
+    return [(1, 1) if other == world else (0, 1) for other in range(worlds)]
+
+
+def dear(case, instead):
+    """The least prices on worlds, reckoned here."""
+    deeds = range(case.deeds())
+    return [max(worth(teller[d]) + sum(worth(instead[d][e]) * (worth(hearer[d]) - worth(hearer[e])) for e in deeds)
+                for d in deeds) for hearer, teller in zip(case.hearer(), case.teller())]
+
+
+def drawn_instead(deeds, seed):
+    """Prices on deeds that might be done instead, drawn."""
+    dice = random.Random(f"{deeds} {seed}")
+    return [[ratio(0 if d == e else Fraction(dice.randint(0, 9), dice.randint(1, 4))) for e in range(deeds)]
+            for d in range(deeds)]
 
 
 def copied(told):
